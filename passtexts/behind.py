@@ -56,8 +56,9 @@ def check_behind(one, other):
 
 def texts_of(program):
     """The list of all texts in the rows and first contents of a program."""
-    rows = [rows[name] for _, rows in list(program.steps.values()) for name in rows]
-    rows = rows + list(program.ends.values())
+    rows = list(program.ends.values())
+    for key in program.steps:
+        rows.extend(list(program.steps[key][1].values()))
     return list(program.firsts.values()) + [item for row in rows for item in row if isinstance(item, str)]
 
 

@@ -46,8 +46,8 @@ class Walks:
         self.edges = edges
         self.source = source
         self.goal = goal
-        self.back = turned_about(edges)
-        self.parts = parts_of(edges, self.back)
+        self.edges_back = turned_about(edges)
+        self.parts = parts_of(edges, self.edges_back)
         self.rings = [ring_sums(part, edges) for part in self.parts]
         self.where = {node: number for number, part in enumerate(self.parts) for node in part}
 
@@ -91,7 +91,7 @@ class Walks:
         while front:
             lowered = {}
             for node in front:
-                for before, many in self.back[node]:
+                for before, many in self.edges_back[node]:
                     total = rests[node] + turn * many
                     if self.where[before] == number and (before not in rests or total < rests[before]):
                         rests[before] = total
@@ -135,15 +135,16 @@ class Walks:
         """The list, by part, of the lists of the kinds that walks from it to the goal meet, taken together."""
         kinds = [[] for _ in self.parts]
         for number in reversed(range(len(self.parts))):
-            found = set()
-            for node in self.parts[number]:
-                if node == self.goal:
-                    found.add(0)
-                for following, _ in self.edges[node]:
-                    for kind in kinds[self.where[following]]:
-                        found.add(kind)
-            kinds[number] = [kind | self.kind_of(number) for kind in sorted(found)]
+            kinds[number] = self.kinds_from(number, kinds)
         return kinds
+
+    def kinds_from(self, number, kinds):
+        """The kinds that walks from a part to the goal meet, when those of the parts behind it are known."""
+        part = self.parts[number]
+        behind = [kind for node in part for following, _ in self.edges[node] for kind in kinds[self.where[following]]]
+        if self.goal in part:
+            behind.append(0)
+        return [kind | self.kind_of(number) for kind in sorted(set(behind))]
 
 
 def put_down(met, place):

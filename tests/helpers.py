@@ -2,6 +2,7 @@
 
 import itertools
 
+from passtexts.errors import BadProgram, NotThrifty, Unlike
 from passtexts.programs import Program
 
 PLAIN_MOVES = (
@@ -133,3 +134,24 @@ def copying():
     """A program that is thrifty, but not plain: of two copies one is thrown away."""
     steps = {(0, "a"): (0, {"x": (("x",), "a"), "y": (("x",),)}), (0, "b"): (0, {"x": (("y",), "b")})}
     return Program("ab", 1, ["x", "y"], {}, steps, {0: (("x",),)})
+
+
+def ending(program, ends):
+    """The program with other ends."""
+    return Program(program.letters, program.states, program.registers, program.firsts, program.steps, ends)
+
+
+def check_refusals(case, asked):
+    """Checks which error comes first, where two thrifty programs with the same letters are asked for."""
+    for one, other in ((None, None), (echo(), "a"), (None, echo()), (doubling(), 1), (echo("abc"), [])):
+        with case.assertRaises(BadProgram) as caught:
+            asked(one, other)
+        case.assertIsNone(caught.exception.part)
+    for one, other in ((echo("a"), echo("b")), (echo("ab"), echo("abc")), (doubling(), echo("a")),
+                       (echo("a"), doubling())):
+        with case.assertRaises(Unlike) as caught:
+            asked(one, other)
+        case.assertEqual(caught.exception.what, "letters")
+    for one, other in ((doubling(), doubling()), (echo(), doubling()), (doubling(), echo())):
+        with case.assertRaises(NotThrifty):
+            asked(one, other)
