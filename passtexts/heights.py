@@ -91,9 +91,11 @@ def is_node(one, other, into, node, lives):
     """Whether it is a node of states to which some text leads both; lives keeps what is found of live registers."""
     if not isinstance(node, tuple) or len(node) != 4 or (node[0], node[2]) not in into:
         return False
-    for program, live, kept in ((one, node[1], lives[0]), (other, node[3], lives[1])):
-        if live not in kept:
-            kept[live] = is_live(program, live)
-        if not kept[live]:
-            return False
-    return True
+    return kept_live(one, node[1], lives[0]) and kept_live(other, node[3], lives[1])
+
+
+def kept_live(program, live, kept):
+    """Whether it is a tuple of live registers, kept once it is found."""
+    if live not in kept:
+        kept[live] = is_live(program, live)
+    return kept[live]

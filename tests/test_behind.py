@@ -135,6 +135,30 @@ class Behind(unittest.TestCase):
         self.assertEqual(behind(one, other)("ab"), "f" + "e" * 5 + "g")
         self.assertEqual(behind(one, other).letters, "ab")
 
+    def test_pieces_that_come_up_later(self):
+        steps = {(0, "a"): (0, {"x": ("b",)}), (0, "b"): (0, {"x": (("x",), "b")})}
+        one = Program("ab", 1, ["x"], {"x": "a"}, steps, {0: (("x",),)})
+        steps = {(0, "a"): (0, {"y": ("a",)}), (0, "b"): (0, {"y": ("b", ("y",), "ab")})}
+        other = Program("ab", 1, ["y"], {"y": "b"}, steps, {0: (("y",), "b")})
+        found = behind(one, other)
+        for text in every_text("ab", 5):
+            self.assertEqual(found(text), other(one(text)))
+
+    def test_several_states_and_registers(self):
+        steps = {(0, "a"): (0, {"x": (("x",), "b"), "y": (("z",), "a"), "z": (("y",),)}),
+                 (0, "b"): (0, {"x": (("y",), "a", ("x",)), "y": ("b",)})}
+        one = Program("ab", 1, ["x", "y", "z"], {"y": "ab", "z": "b"}, steps, {0: (("z",), ("x",), "b", ("y",))})
+        steps = {(state, "a"): ((state * 2 + 1) % 5, {"u": (("v",), "a"), "v": (("u",), str(state))})
+                 for state in range(5)}
+        steps.update({(state, "b"): ((state + 3) % 5, {"u": (("u",), "c", ("v",)), "v": (str(state),)})
+                      for state in range(5)})
+        other = Program("ab", 5, ["u", "v"], {"v": "e"}, steps, {state: (("v",), "d", ("u",)) for state in range(5)})
+        found = behind(one, other)
+        self.assertLessEqual(len(found.registers), 60)
+        self.assertTrue(judge_thrifty(found))
+        for text in every_text("ab", 8):
+            self.assertEqual(found(text), other(one(text)))
+
     def test_no_registers(self):
         constant = Program("ab", 1, [], {}, {(0, "a"): (0, {}), (0, "b"): (0, {})}, {0: ("ba",)})
         self.assertEqual(behind(constant, turning())("bbb"), "ab")

@@ -85,7 +85,13 @@ class Judged(unittest.TestCase):
         self.assertEqual(judge_lengths(later, one), Even({(0, ("x",), 0, ("x",)): 0, (1, ("x",), 1, ("x",)): 0}))
         halves = {(0, "a"): (1, {"y": ("ab", ("y",))}), (1, "a"): (0, {"y": ("ab", ("y",))})}
         other = Program("a", 2, ["y"], {}, halves, {0: (("y",), "c"), 1: (("y",), "cc")})
-        self.assertEqual(judge_lengths(one, other).heights, {(0, ("x",), 0, ("y",)): -1, (1, ("x",), 1, ("y",)): -2})
+        found = judge_lengths(one, other)
+        self.assertEqual(found.heights, {(0, ("x",), 0, ("y",)): -1, (1, ("x",), 1, ("y",)): -2})
+        self.assertTrue(found.shows(one, other))
+        self.assertTrue(judge_lengths(other, one).shows(other, one))
+        for height in (0, -1, -3, 2):
+            found.heights[(1, ("x",), 1, ("y",))] = height
+            self.assertFalse(found.shows(one, other))
 
     def test_nodes_of_states_without_ends(self):
         steps = {(0, "a"): (1, {"x": (("x",), "a")}), (1, "a"): (0, {})}
@@ -214,6 +220,9 @@ class EvenShown(unittest.TestCase):
     def test_heights_of_others(self):
         heights = judge_lengths(mirrored(), twice_as_much()).heights
         self.assertFalse(Even(heights).shows(twice_as_much(), mirrored()))
+        for node in ((0, ("x", "y"), 0, ("x", "y")), (0, ("z",), 0, ("z",)), (0, ("z",), 0, ("x", "y"))):
+            self.assertFalse(Even({**heights, node: 0}).shows(mirrored(), twice_as_much()))
+            self.assertFalse(Even({node: 0, **heights}).shows(mirrored(), twice_as_much()))
         self.assertFalse(Even(heights).shows(mirrored(), mirrored()))
         self.assertFalse(Even(heights).shows(echo(), echo()))
 

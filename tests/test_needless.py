@@ -64,6 +64,10 @@ class Emptied(unittest.TestCase):
         self.assertEqual(emptied(program, "x"), Program("a", 1, ["y"], {"y": "b"}, {(0, "a"): (0, {
             "y": ("a",)})}, {0: (("y",), "c", ("y",))}))
 
+    def test_texts_are_not_names(self):
+        program = Program("a", 1, ["x"], {"x": "x"}, {(0, "a"): (0, {"x": ("x", ("x",))})}, {0: ("x1", ("x",), "x")})
+        self.assertEqual(emptied(program, "x"), Program("a", 1, [], {}, {(0, "a"): (0, {})}, {0: ("x1x",)}))
+
     def test_the_only_register(self):
         found = emptied(echo(), "x")
         self.assertEqual((found.registers, found("ab")), ([], ""))

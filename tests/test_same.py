@@ -1,10 +1,13 @@
 """Point [5]: whether two programs write the same for all texts."""
 
 import unittest
+from unittest import mock
 
 from passtexts.alike import Differ, Even, Same, judge_lengths, judge_same, marks_differ, write_same
+from passtexts.errors import TooLarge
 from passtexts.marks import differences
 from passtexts.programs import Program
+from passtexts.rings import has_ring
 from passtexts.thrifty import judge_thrifty
 from passtexts.walks import comes_to_nothing
 from tests.helpers import (COPY_MOVES, PLAIN_MOVES, Digits, check_refusals, copying, counted, echo, ending,
@@ -185,6 +188,35 @@ class Judged(unittest.TestCase):
         self.assertEqual(judge_same(one, other), Differ("a"))
         self.assertEqual(judge_lengths(one, other).text, "aa")
 
+    def test_lengths_that_differ_late(self):
+        steps = {(state, letter): (min(state + 1, 12) if letter == "a" or state == 12 else 0, {"x": (("x",), letter)})
+                 for state in range(13) for letter in "ab"}
+        ends = {state: (("x",),) for state in range(13)}
+        one = Program("ab", 13, ["x"], {}, steps, ends)
+        other = Program("ab", 13, ["x"], {}, steps, {**ends, 12: (("x",), "a")})
+        self.assertFalse(marks_differ(one, other))
+        self.assertEqual(judge_same(one, other), Differ("a" * 12))
+        refusing = ending(one, {state: (("x",),) for state in range(12)})
+        self.assertEqual(judge_same(refusing, one), Differ("a" * 12))
+
+    def test_signs_of_first_contents(self):
+        def program(first, other_first, between, behind):
+            steps = {(0, "a"): (0, {"x": (("x",), "c")}), (0, "b"): (0, {"y": ("c", ("y",))})}
+            return Program("ab", 1, ["x", "y"], {"x": first, "y": other_first}, steps,
+                           {0: (("x",), between, ("y",), behind)})
+
+        one = program("cab", "bac", "cc", "")
+        for other, same in ((program("cab", "bac", "cc", ""), True), (program("cab", "bacc", "c", ""), False),
+                            (program("cab", "cbac", "c", ""), True), (program("cab", "ccbac", "", ""), True),
+                            (program("cabc", "bac", "c", ""), True), (program("cabcc", "bac", "", ""), True),
+                            (program("cba", "bac", "cc", ""), False), (program("cab", "abc", "cc", ""), False),
+                            (program("cab", "ba", "cc", "c"), True), (program("ca", "cbac", "bc", ""), False),
+                            (program("aab", "bac", "cc", ""), False), (program("cab", "baa", "cc", ""), False)):
+            self.assertTrue(judge_lengths(one, other))
+            self.assertEqual(marks_differ(one, other), not same)
+            self.assertEqual(bool(judge_same(one, other)), same)
+            self.assertEqual(first_differing(one, other, 5) is None, same)
+
     def test_long_texts_in_rows(self):
         def program(ahead, behind):
             return Program("a", 1, ["x"], {}, {(0, "a"): (0, {"x": (ahead, ("x",), behind)})}, {0: (("x",),)})
@@ -269,6 +301,26 @@ def tried(edges, most):
                 seen.add(place)
                 waiting.append(place)
     return (0, 0) in seen
+
+
+class Limits(unittest.TestCase):
+    def test_too_many_nodes(self):
+        with mock.patch("passtexts.marks.MOST_NODES", 12):
+            with self.assertRaises(TooLarge):
+                judge_same(echo("ab", 9), echo("ab", 9))
+            self.assertTrue(judge_same(echo(), echo()))
+
+    def test_too_many_sums(self):
+        one = ringed("cd", "cd", (("x",), "cd", ("y",)))
+        with mock.patch("passtexts.walks.MOST_MET", 3):
+            with self.assertRaises(TooLarge):
+                judge_same(one, one)
+        self.assertTrue(judge_same(one, one))
+
+    def test_rings_of_single_steps(self):
+        for came, found in (({}, False), ({1: 2, 2: 3}, False), ({1: 2, 2: 3, 3: 1}, True), ({1: 2, 2: 2}, True),
+                            ({4: 1, 1: 2, 2: 1}, True), ({4: 1, 1: 2, 5: 1, 2: 6}, False)):
+            self.assertEqual(has_ring(came), found)
 
 
 class Shown(unittest.TestCase):
