@@ -148,13 +148,14 @@ class Behind(unittest.TestCase):
         steps = {(0, "a"): (0, {"x": (("x",), "b"), "y": (("z",), "a"), "z": (("y",),)}),
                  (0, "b"): (0, {"x": (("y",), "a", ("x",)), "y": ("b",)})}
         one = Program("ab", 1, ["x", "y", "z"], {"y": "ab", "z": "b"}, steps, {0: (("z",), ("x",), "b", ("y",))})
-        steps = {(state, "a"): ((state * 2 + 1) % 5, {"u": (("v",), "a"), "v": (("u",), str(state))})
-                 for state in range(5)}
-        steps.update({(state, "b"): ((state + 3) % 5, {"u": (("u",), "c", ("v",)), "v": (str(state),)})
-                      for state in range(5)})
-        other = Program("ab", 5, ["u", "v"], {"v": "e"}, steps, {state: (("v",), "d", ("u",)) for state in range(5)})
+        steps = {(state, "a"): ((state * 2 + 1) % 3, {"u": (("v",), "a"), "v": (("u",), str(state))})
+                 for state in range(3)}
+        steps.update({(state, "b"): ((state + 3) % 3, {"u": (("u",), "c", ("v",)), "v": (str(state),)})
+                      for state in range(3)})
+        other = Program("ab", 3, ["u", "v"], {"v": "e"}, steps, {state: (("v",), "d", ("u",)) for state in range(3)})
         found = behind(one, other)
-        self.assertLessEqual(len(found.registers), 60)
+        self.assertLessEqual(len(found.registers), 3 * 3 * 2 * 2)
+        self.assertLessEqual(found.states, states_needed(one, other))
         self.assertTrue(judge_thrifty(found))
         for text in every_text("ab", 8):
             self.assertEqual(found(text), other(one(text)))
