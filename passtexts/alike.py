@@ -2,10 +2,10 @@
 
 from passtexts.errors import Unlike
 from passtexts.heights import are_heights, heights_of
-from passtexts.living import thrifty_text
+from passtexts.living import thrifty_text, written_size
 from passtexts.marks import GOAL, SOURCE, MarkPairs
 from passtexts.programs import check_program, made
-from passtexts.reading import Reader, first_unlike
+from passtexts.reading import Reader, first_apart, unlike
 from passtexts.thrifty import check_thrifty
 from passtexts.values import is_made_of
 from passtexts.walks import comes_to_nothing
@@ -91,7 +91,7 @@ def judge_lengths(one, other):
     heights = heights_of(one, other)
     if heights is not None:
         return Even(heights)
-    return Uneven(first_unlike(Reader(uniform(one)), Reader(uniform(other)), None))
+    return Uneven(first_apart(Reader(uniform(one)), Reader(uniform(other)), None, unlike))
 
 
 def judge_same(one, other):
@@ -99,12 +99,12 @@ def judge_same(one, other):
     check_both(one, other)
     first, second = Reader(one), Reader(other)
     # most programs that differ do so soon, and a few texts are read faster than all signs are followed
-    text = first_unlike(first, second, FEW)
+    text = first_apart(first, second, FEW, unlike)
     if text is not None:
         return Differ(text)
     heights = heights_of(one, other)
     if heights is None or marks_differ(one, other):
-        return Differ(first_unlike(first, second, None))
+        return Differ(first_apart(first, second, None, unlike))
     return Same(heights)
 
 
@@ -125,14 +125,8 @@ def check_both(one, other):
 
 def marks_differ(one, other):
     """Whether two programs that write texts of the same lengths put unlike signs in one place of them."""
-    edges = MarkPairs(one, other).explored()
+    edges = MarkPairs(one, other, False).explored()
     return comes_to_nothing([list(told) for told in edges], SOURCE, GOAL)
-
-
-def written_size(program, text):
-    """How many signs are written for a text, None if it is refused."""
-    written = thrifty_text(program, text)
-    return None if written is None else len(written)
 
 
 def uniform(program):

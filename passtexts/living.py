@@ -56,6 +56,18 @@ def thrifty_text(program, text):
     return text_of(program.ends[path[-1]], held)
 
 
+def written_size(program, text):
+    """How many signs a thrifty program writes for a text, None if it refuses it."""
+    path = path_of(program, text)
+    if path[-1] not in program.ends:
+        return None
+    lives = lives_along(program, text, path)
+    many = first_signs(program, lives[0]) + signs_in(program.ends[path[-1]])
+    for place, letter in enumerate(text):
+        many = many + signs_in_rows(program.steps[(path[place], letter)][1], lives[place + 1])
+    return many
+
+
 def useful_registers(program):
     """The dict of the reached states, each with the ascending tuple of the registers that are live for some rest."""
     reached = first_texts(program.letters, program.steps)

@@ -96,12 +96,14 @@ class MarkPairs:
     """The pairs of marks of two programs along one text, numbered, with the steps between them.
 
     edges is a list, by the number of the node, of dicts from pairs of a node and a sum to True: the sum is by how many
-    signs more come ahead of the first mark. From SOURCE one comes to the ends, and to GOAL where the signs are unlike.
+    signs more come ahead of the first mark. From SOURCE one comes to the ends, and to GOAL where the signs are unlike,
+    or, if they are timed, are not put in at the same place of the text.
     """
 
-    def __init__(self, one, other):
+    def __init__(self, one, other, timed):
         self.one = Marks(one)
         self.other = Marks(other)
+        self.timed = timed
         self.into = pairs_into(one, other)
         self.numbers = {}
         self.edges = [{}, {}]
@@ -111,7 +113,7 @@ class MarkPairs:
         """The edges, when all pairs are followed back from the ends."""
         for state, other_state in self.into:
             if state in self.one.program.ends and other_state in self.other.program.ends:
-                self.connect(SOURCE, self.one.at_end(state), self.other.at_end(other_state))
+                self.connect(SOURCE, self.one.at_end(state), self.other.at_end(other_state), False)
         while self.waiting:
             self.follow(self.waiting.pop())
         return self.edges
@@ -120,17 +122,26 @@ class MarkPairs:
         """Goes back from a pair of marks."""
         node = self.numbers[pair]
         states = (self.one.state_of(pair[0]), self.other.state_of(pair[1]))
+        apart = self.are_apart(pair)
         if states == (0, 0):
-            self.begin(node, pair)
+            self.begin(node, pair, apart)
         for (state, other_state), letter in self.into[states]:
-            self.connect(node, self.one.ahead(pair[0], state, letter), self.other.ahead(pair[1], other_state, letter))
+            marks = self.one.ahead(pair[0], state, letter)
+            self.connect(node, marks, self.other.ahead(pair[1], other_state, letter), apart)
 
-    def connect(self, node, marks, other_marks):
-        """Puts edges from a node to all pairs of these marks but those of equal signs, which lead to nothing unlike."""
+    def are_apart(self, pair):
+        """Whether these marks are unlike, whatever signs they are, as they are timed, and one was put in already."""
+        return self.timed and (self.one.sign_of(pair[0]) != "" or self.other.sign_of(pair[1]) != "")
+
+    def connect(self, node, marks, other_marks, apart):
+        """Puts edges from a node to all pairs of these marks but those that lead to nothing unlike.
+
+        These are the ones of equal signs, if the marks of the node are not apart already.
+        """
         for mark, sums in marks:
             sign = self.one.sign_of(mark)
             for other_mark, other_sums in other_marks:
-                if sign == "" or sign != self.other.sign_of(other_mark):
+                if apart or sign == "" or sign != self.other.sign_of(other_mark):
                     self.put_edges(node, self.node_of((mark, other_mark)), sums, other_sums)
 
     def node_of(self, pair):
@@ -149,13 +160,13 @@ class MarkPairs:
         for many in differences(sums, other_sums):
             edges[(following, many)] = True
 
-    def begin(self, node, pair):
-        """Puts edges to GOAL for signs that are unlike."""
+    def begin(self, node, pair, apart):
+        """Puts edges to GOAL for signs that are unlike, for all signs if the marks are apart already."""
         signs = self.one.at_start(pair[0])
         other_signs = self.other.at_start(pair[1])
         for sign in signs:
             for other_sign in other_signs:
-                if sign != other_sign:
+                if apart or sign != other_sign:
                     self.put_edges(node, GOAL, signs[sign], other_signs[other_sign])
 
 

@@ -44,6 +44,22 @@ def pairs_into(one, other):
     return into
 
 
+def first_texts_of_both(one, other):
+    """The dict of the pairs of states to which some text leads both programs, with the first text of each."""
+    texts = {(0, 0): ""}
+    waiting = [(0, 0)]
+    at = 0
+    while at < len(waiting):
+        pair = waiting[at]
+        at = at + 1
+        for letter in one.letters:
+            following = (one.steps[(pair[0], letter)][0], other.steps[(pair[1], letter)][0])
+            if following not in texts:
+                texts[following] = texts[pair] + letter
+                waiting.append(following)
+    return texts
+
+
 def path_of(program, text):
     """The list of the states that a text leads through, from the first one on."""
     path = [0]

@@ -113,6 +113,11 @@ def has_falling(inner, turn):
 
 def has_ring(came):
     """Whether one comes to a ring, going from nodes to the ones that are told for them."""
+    return node_on_ring(came) is not None
+
+
+def node_on_ring(came):
+    """A node on a ring to which one comes, going from nodes to the ones that are told for them, None without one."""
     passed = {}
     for root in came:
         node = root
@@ -120,5 +125,5 @@ def has_ring(came):
             passed[node] = root
             node = came[node]
         if node in came and passed[node] == root:
-            return True
-    return False
+            return node
+    return None

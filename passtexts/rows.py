@@ -27,6 +27,17 @@ def text_of(row, held):
     return "".join([item if isinstance(item, str) else held[item[0]] for item in row])
 
 
+def filled(row, rows):
+    """The row with the rows of registers in the places of these."""
+    items = []
+    for item in row:
+        if isinstance(item, str):
+            items.append(item)
+        else:
+            items.extend(rows[item[0]])
+    return row_of(items)
+
+
 def names_in(row):
     """The registers of a row, in their order."""
     return [item[0] for item in row if not isinstance(item, str)]

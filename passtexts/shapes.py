@@ -6,7 +6,7 @@ between and behind them, the pieces, are held by registers of the program that i
 comes first in a row, and one for the piece behind each register, which stands in one row at most.
 """
 
-from passtexts.rows import row_of
+from passtexts.rows import filled, row_of
 from passtexts.values import word_of
 
 
@@ -45,18 +45,8 @@ class Shapes:
         """The state and the rows behind the signs of a text."""
         for sign in text:
             state, moves = self.other.steps[(state, sign)]
-            rows = {told: self.put_in(moves[told], rows) for told in self.other.registers}
+            rows = {told: filled(moves[told], rows) for told in self.other.registers}
         return state, rows
-
-    def put_in(self, row, rows):
-        """The row with the rows of registers in their places."""
-        items = []
-        for item in row:
-            if isinstance(item, str):
-                items.append(item)
-            else:
-                items.extend(rows[item[0]])
-        return row_of(items)
 
     def through_piece(self, state, rows, name, shapes):
         """The state and the rows behind what a register of the first program holds."""
@@ -107,7 +97,7 @@ class Shapes:
         state, rows = self.through(0, row, shapes)
         if state not in self.other.ends:
             return None
-        items = self.put_in(self.other.ends[state], rows)
+        items = filled(self.other.ends[state], rows)
         return row_of([self.other.firsts[item[0]] if is_pair(item) else item for item in items])
 
 

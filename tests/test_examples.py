@@ -55,6 +55,35 @@ RUNS = '''
 ['ba', 'a', {'x': 'a'}, 1]
 '''
 
+ORIGINS = '''
+>>> from passtexts.alike import write_same
+>>> from passtexts.origins import judge_origins, origins
+>>> from passtexts.programs import Program
+>>> one = Program("a", 1, ["x"], {"x": "b"}, {(0, "a"): (0, {"x": (("x",), "a")})}, {0: (("x",), "c")})
+>>> other = Program("a", 1, ["x"], {}, {(0, "a"): (0, {"x": ("a", ("x",))})}, {0: ("b", ("x",), "c")})
+>>> [origins(one, "aa"), origins(other, "aa"), write_same(one, other), judge_origins(one, other).text]
+[[-1, 0, 1, 2], [2, 1, 0, 2], True, '']
+'''
+
+BEGINNINGS = '''
+>>> from passtexts.beginnings import judge_beginning, judge_growing, judge_longer
+>>> from passtexts.programs import Program
+>>> steps = {(0, "a"): (0, {"x": (("x",), "cd")}), (0, "b"): (0, {"x": (("x",), "c")})}
+>>> one = Program("ab", 1, ["x"], {}, steps, {0: (("x",),)})
+>>> other = Program("ab", 1, ["x"], {}, steps, {0: (("x",), "cc")})
+>>> [judge_longer(one, other).number, bool(judge_beginning(one, other)), bool(judge_growing(one)), judge_growing(other).text, judge_growing(other).letter]
+[-2, True, True, '', 'a']
+'''
+
+RULES = '''
+>>> from passtexts.programs import Program
+>>> from passtexts.rules import exchanged, ignored, judge_rule
+>>> ordered = Program("ab", 1, ["x", "y"], {}, {(0, "a"): (0, {"x": (("x",), "a")}), (0, "b"): (0, {"y": (("y",), "b")})}, {0: (("x",), ("y",))})
+>>> only = Program("ab", 1, ["x"], {}, {(0, "a"): (0, {"x": (("x",), "a")}), (0, "b"): (0, {})}, {0: (("x",),)})
+>>> [exchanged(ordered), ignored(ordered), ignored(only), bool(judge_rule(only, "ab", "ba")), bool(judge_rule(ordered, "aa", "a"))]
+[[('a', 'b')], '', 'b', True, False]
+'''
+
 
 class Examples(unittest.TestCase):
     def check(self, text):
@@ -81,3 +110,12 @@ class Examples(unittest.TestCase):
 
     def test_runs(self):
         self.check(RUNS)
+
+    def test_origins(self):
+        self.check(ORIGINS)
+
+    def test_beginnings(self):
+        self.check(BEGINNINGS)
+
+    def test_rules(self):
+        self.check(RULES)

@@ -33,6 +33,13 @@ INTERFACE = {
               **{name: ["__init__", "__eq__", "__bool__", "shows"] for name in ("Even", "Uneven", "Same", "Differ")}},
     "behind": ["behind", "text_itself", "judge_undoes", "judge_commute", "judge_again"],
     "needless": ["emptied", "needless", "leaned", "trimmed"],
+    "origins": {"origins": None, "judge_origins": None,
+                **{name: ["__init__", "__eq__", "__bool__", "shows"] for name in ("SameFrom", "OtherFrom")}},
+    "beginnings": {**{name: None for name in ("judge_longer", "judge_beginning", "judge_growing", "read_before")},
+                   **{name: ["__init__", "__eq__", "__bool__", "shows"]
+                      for name in ("Most", "Endless", "Begins", "Strays", "Growing", "Changing")}},
+    "rules": {"judge_rule": None, "ignored": None, "exchanged": None, "Respected": ["__eq__", "__bool__", "shows"],
+              "Broken": ["__init__", "__eq__", "__bool__", "shows"]},
     "runs": {"Run": ["__init__", "read", "back", "text", "contents", "written", "trial", "attempt", "__len__"]},
 }
 
