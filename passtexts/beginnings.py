@@ -2,9 +2,9 @@
 
 from passtexts.alike import FEW, check_both, marks_differ
 from passtexts.heights import end_together
-from passtexts.living import lives_along, thrifty_text, written_size
+from passtexts.living import live_on_ring, thrifty_text, written_size
 from passtexts.longer import Longer
-from passtexts.paths import first_texts_of_both, pairs_into, path_of
+from passtexts.paths import first_texts_of_both, pairs_into
 from passtexts.programs import check_program, made
 from passtexts.reading import Reader, first_apart
 from passtexts.rows import filled
@@ -55,7 +55,7 @@ class Endless:
         check_both(one, other)
         if not all([is_made_of(text, one.letters) for text in (self.ahead, self.ring, self.behind)]):
             return False
-        if not all([leads_back(program, self.ahead, self.ring, self.behind) for program in (one, other)]):
+        if None in [live_on_ring(program, self.ahead, self.ring, self.behind) for program in (one, other)]:
             return False
         more = size_more(one, other, self.ahead + self.ring + self.behind)
         return more is not None and more > size_more(one, other, self.ahead + self.behind)
@@ -216,17 +216,6 @@ def size_more(one, other, text):
     """By how many signs what the first program writes for a text is longer, None if one of them refuses it."""
     size, other_size = written_size(one, text), written_size(other, text)
     return None if size is None or other_size is None else size - other_size
-
-
-def leads_back(program, ahead, ring, behind):
-    """Whether the second text leads a state to itself, with the same registers live ahead of it and behind it."""
-    whole = ahead + ring + behind
-    path = path_of(program, whole)
-    here, there = len(ahead), len(ahead) + len(ring)
-    if path[-1] not in program.ends or path[here] != path[there]:
-        return False
-    lives = lives_along(program, whole, path)
-    return lives[here] == lives[there]
 
 
 def heights_of_beginning(one, other):

@@ -42,6 +42,20 @@ def lives_along(program, text, path):
     return lives[::-1]
 
 
+def live_on_ring(program, ahead, ring, behind):
+    """The registers that are live ahead of the second text and behind it, if it leads a state to itself with them.
+
+    None, if it does not, or if nothing is written for the three texts.
+    """
+    whole = ahead + ring + behind
+    path = path_of(program, whole)
+    here, there = len(ahead), len(ahead) + len(ring)
+    if path[-1] not in program.ends or path[here] != path[there]:
+        return None
+    lives = lives_along(program, whole, path)
+    return lives[here] if lives[here] == lives[there] else None
+
+
 def thrifty_text(program, text):
     """What a thrifty program writes for a text, None if it refuses it."""
     path = path_of(program, text)

@@ -84,6 +84,42 @@ RULES = '''
 [[('a', 'b')], '', 'b', True, False]
 '''
 
+POWERS = """
+>>> from passtexts.powers import written_for
+>>> from passtexts.programs import Program
+>>> turned = Program("ab", 1, ["x"], {}, {(0, "a"): (0, {"x": ("a", ("x",))}), (0, "b"): (0, {"x": ("b", ("x",))})}, {0: (("x",), "c")})
+>>> found = written_for(turned, "a", "ab", 10 ** 12, "b")
+>>> [found.size(), found.part(0, 6), found.sign(10 ** 12), found.part(2 * 10 ** 12, found.size())]
+[2000000000003, 'bbabab', 'a', 'aac']
+"""
+
+SETS = """
+>>> from passtexts.programs import Program
+>>> from passtexts.sets import TextSet, domain, judge_into, parting, texts_into
+>>> program = Program('ab', 1, ['x'], {}, {(0, 'a'): (0, {'x': ('b', ('x',))}), (0, 'b'): (0, {'x': (('x',), 'a')})}, {0: (('x',),)})
+>>> line = TextSet('ab', [{'a': 1, 'b': 0}, {'a': 1, 'b': 2}, {'a': 2, 'b': 2}], [0, 1])
+>>> every = TextSet('ab', [{'a': 0, 'b': 0}], [0])
+>>> [bool(judge_into(program, every, line)), texts_into(program, line) == every, judge_into(program, every, TextSet('ab', [{'a': 1, 'b': 1}, {'a': 1, 'b': 1}], [0])).text, parting(line, every), domain(program) == every]
+[True, True, 'a', 'ab', True]
+"""
+
+MAKING = """
+>>> from passtexts.making import beside, read_as, respelled, turned
+>>> from passtexts.programs import Program
+>>> program = Program('ab', 1, ['x'], {}, {(0, 'a'): (0, {'x': (('x',), 'a')}), (0, 'b'): (0, {'x': (('x',), 'b')})}, {0: (('x',),)})
+>>> [beside(program, turned(program))('aab'), respelled(program, {'b': 'cc'})('ab'), read_as(program, {'x': 'ab', 'y': 'b'})('xxy')]
+['aabbaa', 'acc', 'ababb']
+"""
+
+LONGEST = """
+>>> from passtexts.longest import judge_rate, longest, most_length
+>>> from passtexts.programs import Program
+>>> program = Program('ab', 1, ['x'], {'x': 'c'}, {(0, 'a'): (0, {'x': ('a', ('x',), 'a')}), (0, 'b'): (0, {})}, {0: (('x',), 'e')})
+>>> found = judge_rate(program)
+>>> [longest(program, 3), (found.top, found.below), found.shows(program), most_length(program)]
+[8, (2, 1), True, None]
+"""
+
 
 class Examples(unittest.TestCase):
     def check(self, text):
@@ -119,3 +155,15 @@ class Examples(unittest.TestCase):
 
     def test_rules(self):
         self.check(RULES)
+
+    def test_powers(self):
+        self.check(POWERS)
+
+    def test_sets(self):
+        self.check(SETS)
+
+    def test_making(self):
+        self.check(MAKING)
+
+    def test_longest(self):
+        self.check(LONGEST)

@@ -14,7 +14,8 @@ LIBRARY = {"math": {"gcd"}, "heapq": {"heappush", "heappop"}, "itertools": {"pro
 METHODS = set("""append clear copy count endswith extend find get index insert isalnum isalpha isdigit islower isspace
     isupper items join keys ljust lower lstrip partition pop remove replace reverse rfind rjust rpartition rsplit
     rstrip setdefault split splitlines startswith strip update upper values zfill bit_length add discard""".split())
-DOUBLE = set("""__init__ __eq__ __repr__ __str__ __len__ __enter__ __exit__ __call__ __bool__""".split())
+DOUBLE = set("""__init__ __eq__ __repr__ __str__ __len__ __enter__ __exit__ __call__ __bool__
+    __contains__""".split())
 BARRED = set("""register mro elements open input law version_info with_traceback add_note attrgetter breakpoint builtins
     compile copyright credits delattr dir eval exec exit gc getattr globals hasattr help id importlib license locals
     methodcaller os quit setattr type vars sys""".split()) | set(dir(builtins)) - BUILTINS
@@ -40,6 +41,14 @@ INTERFACE = {
                       for name in ("Most", "Endless", "Begins", "Strays", "Growing", "Changing")}},
     "rules": {"judge_rule": None, "ignored": None, "exchanged": None, "Respected": ["__eq__", "__bool__", "shows"],
               "Broken": ["__init__", "__eq__", "__bool__", "shows"]},
+    "powers": {"written_for": None, "Written": ["__init__", "__eq__", "size", "sign", "part"]},
+    "sets": {"TextSet": ["__init__", "__eq__", "__len__", "__contains__", "after", "first"],
+             **{name: None for name in ("least", "both", "either", "without", "parting", "domain", "judge_into",
+                                        "texts_into")},
+             **{name: ["__init__", "__eq__", "__bool__", "shows"] for name in ("Into", "FallsOut")}},
+    "making": ["beside", "chosen", "kept", "turned", "respelled", "read_as"],
+    "longest": {"longest": None, "judge_rate": None, "most_length": None,
+                "Rate": ["__init__", "__eq__", "__bool__", "shows"]},
     "runs": {"Run": ["__init__", "read", "back", "text", "contents", "written", "trial", "attempt", "__len__"]},
 }
 
