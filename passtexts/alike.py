@@ -1,5 +1,6 @@
 """Whether two thrifty programs write texts of the same lengths, or the same texts, whatever is read."""
 
+from passtexts.deciding import decided
 from passtexts.errors import Unlike
 from passtexts.heights import are_heights, heights_of
 from passtexts.living import thrifty_text, written_size
@@ -9,8 +10,6 @@ from passtexts.reading import Reader, first_apart, unlike
 from passtexts.thrifty import check_thrifty
 from passtexts.values import is_made_of
 from passtexts.walks import comes_to_nothing
-
-FEW = 300
 
 
 class Even:
@@ -97,20 +96,24 @@ def judge_lengths(one, other):
 def judge_same(one, other):
     """A Same, if both write the same for all texts, otherwise a Differ."""
     check_both(one, other)
-    first, second = Reader(one), Reader(other)
-    # most programs that differ do so soon, and a few texts are read faster than all signs are followed
-    text = first_apart(first, second, FEW, unlike)
-    if text is not None:
-        return Differ(text)
-    heights = heights_of(one, other)
-    if heights is None or marks_differ(one, other):
-        return Differ(first_apart(first, second, None, unlike))
-    return Same(heights)
+    return judge_thrifty_ones(one, other)
 
 
 def write_same(one, other):
     """Whether both write the same for all texts."""
     return isinstance(judge_same(one, other), Same)
+
+
+def judge_thrifty_ones(one, other):
+    """What judge_same returns, for two thrifty programs with the same letters."""
+    text, heights = decided(Reader(one), Reader(other), unlike, lambda: heights_if_same(one, other))
+    return Same(heights) if text is None else Differ(text)
+
+
+def heights_if_same(one, other):
+    """The heights of two programs that write the same for all texts, None for others."""
+    heights = heights_of(one, other)
+    return None if heights is None or marks_differ(one, other) else heights
 
 
 def check_both(one, other):
@@ -124,7 +127,7 @@ def check_both(one, other):
 
 
 def marks_differ(one, other):
-    """Whether two programs that write texts of the same lengths put unlike signs in one place of them."""
+    """Whether for some text two programs have unlike signs in one place of what they write."""
     edges = MarkPairs(one, other, False).explored()
     return comes_to_nothing([list(told) for told in edges], SOURCE, GOAL)
 

@@ -1,12 +1,13 @@
 """By how much what one program writes is longer, whether it is a beginning, and whether a program's writing grows."""
 
-from passtexts.alike import FEW, check_both, marks_differ
+from passtexts.alike import check_both, marks_differ
+from passtexts.deciding import decided
 from passtexts.heights import end_together
 from passtexts.living import live_on_ring, thrifty_text, written_size
 from passtexts.longer import Longer
 from passtexts.paths import first_texts_of_both, pairs_into
 from passtexts.programs import check_program, made
-from passtexts.reading import Reader, first_apart
+from passtexts.reading import Reader
 from passtexts.rows import filled
 from passtexts.thrifty import check_thrifty
 from passtexts.values import is_made_of
@@ -166,14 +167,8 @@ def judge_longer(one, other):
 def judge_beginning(one, other):
     """A Begins, if what the first one writes is always a beginning of what the other one writes, otherwise a Strays."""
     check_both(one, other)
-    first, second = Reader(one), Reader(other)
-    text = first_apart(first, second, FEW, strays)
-    if text is not None:
-        return Strays(text)
-    heights = heights_of_beginning(one, other)
-    if heights is None or marks_differ(one, other):
-        return Strays(first_apart(first, second, None, strays))
-    return Begins(heights)
+    text, heights = decided(Reader(one), Reader(other), strays, lambda: heights_of_beginning(one, other))
+    return Begins(heights) if text is None else Strays(text)
 
 
 def judge_growing(program):
@@ -219,7 +214,7 @@ def size_more(one, other, text):
 
 
 def heights_of_beginning(one, other):
-    """The heights that tell that the first program never writes more, None if it does, or just one refuses a text."""
+    """The heights that tell that the first program never writes more, None if it writes no beginning for some text."""
     if not end_together(one, other, pairs_into(one, other)):
         return None
     longer = Longer(one, other)
@@ -229,4 +224,4 @@ def heights_of_beginning(one, other):
     best = longer.greatest(climb.sums)
     if best is not None and climb.sums[best] + longer.starts[best] > 0:
         return None
-    return longer.by_node(climb.sums)
+    return None if marks_differ(one, other) else longer.by_node(climb.sums)

@@ -1,6 +1,6 @@
 """Programs one behind the other, as one program."""
 
-from passtexts.alike import judge_same
+from passtexts.alike import judge_thrifty_ones
 from passtexts.errors import NotPlain, Unlike
 from passtexts.needless import idle_registers, trimmed, without
 from passtexts.programs import check_program, made
@@ -12,8 +12,7 @@ from passtexts.thrifty import check_thrifty, is_plain
 def behind(one, other):
     """The program that writes what the other one writes for what the first one writes."""
     check_behind(one, other)
-    both = trimmed(joined(trimmed(one), trimmed(other)))
-    return without(both, idle_registers(both))
+    return one_behind_other(one, other)
 
 
 def text_itself(program):
@@ -26,7 +25,8 @@ def text_itself(program):
 
 def judge_undoes(one, other):
     """Tells whether the other one writes the text again for what the first one writes."""
-    return judge_same(behind(one, other), text_itself(one))
+    check_behind(one, other)
+    return judge_thrifty_ones(one_behind_other(one, other), text_itself(one))
 
 
 def judge_commute(one, other):
@@ -35,12 +35,19 @@ def judge_commute(one, other):
     check_behind(other, one)
     if one.letters != other.letters:
         raise Unlike("letters")
-    return judge_same(behind(one, other), behind(other, one))
+    return judge_thrifty_ones(one_behind_other(one, other), one_behind_other(other, one))
 
 
 def judge_again(program):
     """Tells whether the program writes the same, if it is done twice."""
-    return judge_same(behind(program, program), program)
+    check_behind(program, program)
+    return judge_thrifty_ones(one_behind_other(program, program), program)
+
+
+def one_behind_other(one, other):
+    """What behind returns, for two programs of which it can be asked; it is thrifty."""
+    both = trimmed(joined(trimmed(one), trimmed(other)))
+    return without(both, idle_registers(both))
 
 
 def check_behind(one, other):

@@ -1,12 +1,13 @@
 """Where each sign that is written was put in, and whether two programs put in the same signs at the same places."""
 
-from passtexts.alike import FEW, check_both
+from passtexts.alike import check_both
+from passtexts.deciding import decided
 from passtexts.heights import are_heights, heights_of
 from passtexts.living import lives_along, thrifty_text
 from passtexts.marks import GOAL, SOURCE, MarkPairs
 from passtexts.paths import path_of
 from passtexts.programs import check_program
-from passtexts.reading import OriginReader, first_apart, unlike
+from passtexts.reading import OriginReader, unlike
 from passtexts.values import check_word, is_made_of
 from passtexts.walks import comes_to_nothing
 
@@ -64,18 +65,18 @@ def origins(program, text):
 def judge_origins(one, other):
     """A SameFrom, if both put in the same signs at the same places, whatever is read, otherwise an OtherFrom."""
     check_both(one, other)
-    first, second = OriginReader(one), OriginReader(other)
-    text = first_apart(first, second, FEW, unlike)
-    if text is not None:
-        return OtherFrom(text)
+    text, heights = decided(OriginReader(one), OriginReader(other), unlike, lambda: heights_if_same_from(one, other))
+    return SameFrom(heights) if text is None else OtherFrom(text)
+
+
+def heights_if_same_from(one, other):
+    """The heights of two programs that put in the same signs at the same places, None for others."""
     heights = heights_of(one, other)
-    if heights is None or origins_differ(one, other):
-        return OtherFrom(first_apart(first, second, None, unlike))
-    return SameFrom(heights)
+    return None if heights is None or origins_differ(one, other) else heights
 
 
 def origins_differ(one, other):
-    """Whether two programs that write texts of the same lengths put in unlike signs, or at unlike places."""
+    """Whether for some text two programs have signs in one place that are unlike, or put in at unlike places."""
     edges = MarkPairs(one, other, True).explored()
     return comes_to_nothing([list(told) for told in edges], SOURCE, GOAL)
 

@@ -15,6 +15,10 @@ class Reader:
         self.moves = {}
         self.outs = {state: self.placed(state, program.ends[state]) for state in program.ends if state in self.useful}
 
+    def size(self):
+        """The number of states, and of the registers that are read with at each of them."""
+        return sum([len(self.useful[state]) + 1 for state in self.useful])
+
     def placed(self, state, row):
         """The row, with the places of registers among the useful ones of a state."""
         useful = self.useful[state]

@@ -9,17 +9,20 @@ def row_of(items):
         if isinstance(item, str):
             texts.append(item)
         else:
-            row.extend(one_text(texts))
-            texts = []
+            if texts:
+                put_text(row, texts)
+                texts = []
             row.append(item)
-    row.extend(one_text(texts))
+    if texts:
+        put_text(row, texts)
     return tuple(row)
 
 
-def one_text(texts):
-    """The list of these texts as one, empty without signs."""
+def put_text(row, texts):
+    """Puts these texts behind a row, as one, if they have signs."""
     text = "".join(texts)
-    return [text] if text else []
+    if text:
+        row.append(text)
 
 
 def text_of(row, held):

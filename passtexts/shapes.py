@@ -17,12 +17,13 @@ class Shapes:
         self.one = one
         self.other = other
         self.numbers = {name: number for number, name in enumerate(one.registers)}
-
-    def piece(self, name, state, told, behind):
-        """The register for the piece that comes first in the row of a told register, or the one behind it."""
-        place = self.numbers[name] * self.other.states + state
-        place = place * len(self.other.registers) + self.other.registers.index(told)
-        return word_of(place * 2 + behind)
+        # the registers for the piece that comes first in the row of a told register, and for the one behind it
+        self.pieces = {}
+        for name in one.registers:
+            for state in range(other.states):
+                for told in other.registers:
+                    place = len(self.pieces) * 2
+                    self.pieces[(name, state, told)] = (word_of(place), word_of(place + 1))
 
     def nothing_read(self):
         """The rows of the second program's registers as long as nothing is read.
@@ -53,10 +54,10 @@ class Shapes:
         following, orders = shapes[self.numbers[name]][state]
         found = {}
         for told, order in zip(self.other.registers, orders):
-            items = [(self.piece(name, state, told, 0),)]
+            items = [(self.pieces[(name, state, told)][0],)]
             for held in order:
                 items.extend(rows[held])
-                items.append((self.piece(name, state, held, 1),))
+                items.append((self.pieces[(name, state, held)][1],))
             found[told] = items
         return following, found
 
@@ -66,12 +67,12 @@ class Shapes:
         pieces = {}
         for told in self.other.registers:
             order = []
-            place = self.piece(name, state, told, 0)
+            place = self.pieces[(name, state, told)][0]
             pieces[place] = []
             for item in rows[told]:
                 if is_pair(item):
                     order.append(item[0])
-                    place = self.piece(name, state, item[0], 1)
+                    place = self.pieces[(name, state, item[0])][1]
                     pieces[place] = []
                 else:
                     pieces[place].append(item)

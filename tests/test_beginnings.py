@@ -76,7 +76,7 @@ class Judged(unittest.TestCase):
 
     def test_signs_are_followed_rightly_without_reading_texts(self):
         kinds = {True: 0, False: 0}
-        with mock.patch("passtexts.beginnings.FEW", 0):
+        with mock.patch("passtexts.deciding.FEW", 0), mock.patch("passtexts.deciding.MANY", 0):
             for number, (one, other) in enumerate(thrifty_pairs(130, 2)):
                 kinds[self.check(one, other)] += 1
                 kinds[self.check(one, longer_behind(other, number))] += 1

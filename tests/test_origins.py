@@ -120,7 +120,7 @@ class Judged(unittest.TestCase):
 
     def test_signs_are_followed_rightly_without_reading_texts(self):
         kinds = {True: 0, False: 0}
-        with mock.patch("passtexts.origins.FEW", 0):
+        with mock.patch("passtexts.deciding.FEW", 0), mock.patch("passtexts.deciding.MANY", 0):
             for one, other in thrifty_pairs(150, 2):
                 if judge_lengths(one, other):
                     found = self.check(one, other)

@@ -64,7 +64,7 @@ class Judged(unittest.TestCase):
         self.assertGreater(min(kinds.values()), 20)
 
     def test_without_reading_texts_first(self):
-        with mock.patch("passtexts.alike.FEW", 0):
+        with mock.patch("passtexts.deciding.FEW", 0), mock.patch("passtexts.deciding.MANY", 0):
             for number, program in enumerate(some_programs(60)):
                 if program.letters == "ab":
                     self.check(program, WORDS[number % 8], WORDS[(number * 5 + 3) % 8], 3)
