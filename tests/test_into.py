@@ -204,6 +204,23 @@ class Large(unittest.TestCase):
         self.assertEqual(len(found.standings), 4000)
         self.assertTrue(found.shows(program, NONE, goal))
 
+    def test_one_more_than_4000(self):
+        # some first states, and then a ring of 125 states beside one of 32
+        goal = multiples(32, "a")
+        for first, large in ((0, False), (1, True)):
+            steps = {(state, "a"): (state + 1 if state < first + 124 else first, {"x": (("x",), "a")})
+                     for state in range(first + 125)}
+            program = Program("a", first + 125, ["x"], {}, steps, {state: () for state in range(first + 125)})
+            every, none = TextSet("a", [{"a": 0}], [0]), TextSet("a", [{"a": 0}], [])
+            if large:
+                with self.assertRaises(TooLarge):
+                    judge_into(program, none, goal)
+                with self.assertRaises(TooLarge):
+                    texts_into(program, goal)
+            else:
+                self.assertEqual(len(judge_into(program, none, goal).standings), 4000)
+                self.assertEqual(texts_into(program, goal), every)
+
     def test_texts_into(self):
         program, goal = self.counts(100, 40)
         self.assertEqual(texts_into(program, goal), goal)
@@ -262,7 +279,8 @@ class IntoShown(unittest.TestCase):
         self.assertFalse(Into(self.found.standings + more[1:]).shows(self.program, source, self.goal))
 
     def test_what_is_no_standing(self):
-        for wrong in ((), (0,), (0, 0), (0, 0, ((0, 1),), 0), (1, 0, ((0, 1),)), (-1, 0, ((0, 1),)), (0, 4, ((0, 1),)),
+        for wrong in ((), (0,), (0, 0), (0, 0, ((0, 1),), 0), (1, 0, ((0, 1),)), (1, 1, ((0, 1),)),
+                      (-1, 0, ((0, 1),)), (-1, 1, ((0, 1),)), (0, 4, ((0, 1),)),
                       (0, -1, ((0, 1),)), (0, 0, ()), (0, 0, ((0, 1), (0, 1))), (0, 0, ((0,),)), (0, 0, ((0, 1, 0),)),
                       (0, 0, ((0, 2),)), (0, 0, ((-1, 0),)), (0, 0, ((0, -1),)), (0, 0, ((-2, -2),)),
                       (0, 0, ((10 ** 30, 0),)), (10 ** 30, 0, ((0, 1),)), (0, 0, (0, 1)), (0, 0, 0), 0, None, "ab",

@@ -330,6 +330,17 @@ class Language(unittest.TestCase):
             if node.name == "__exit__":
                 self.assertNotRegex(ast.unparse(node), r"\bvalue\b.*:\n(.|\n)*\bvalue\b|[-\[*]", where)
 
+    def test_lambdas(self):
+        met = set()
+        for name, node in nodes(ast.Lambda):
+            key = (name, node.lineno, tuple(arg.arg for arg in node.args.args))
+            self.assertNotIn(key, met, self.told(name, node, "L13"))
+            met.add(key)
+        for name, node in nodes(ast.FunctionDef):
+            if node.name.startswith("__"):
+                inner = [told for told in ast.walk(node) if isinstance(told, (ast.Lambda, ast.FunctionDef))]
+                self.assertEqual(inner, [node], self.told(name, node, "L28"))
+
     def test_interface(self):
         for file, listed in INTERFACE.items():
             tree = TREES[file + ".py"]

@@ -236,6 +236,20 @@ class Limits(unittest.TestCase):
         self.assertEqual(read_as(program(("c", ("x",)) * 14), {"a": "aa"})("a"), ("c" + "cb" * 14) * 14)
         with self.assertRaises(TooLarge):
             read_as(program(("c", ("x",)) * 15), {"a": "aa"})
+        for row, items in ((("c", ("x",)) * 200, 400), (("c", ("x",)) * 200 + ("c",), 401), ((("x",), "c") * 200, 400),
+                           ((("x",), "c") * 200 + (("x",),), 401), ((("x",), "c") * 200 + (("x",), ("x",)), 402)):
+            if items <= 400:
+                self.assertEqual(len(read_as(program(row), {"a": "a"}).steps[(0, "a")][1]["x"]), items)
+            else:
+                with self.assertRaises(TooLarge):
+                    read_as(program(row), {"a": "a"})
+        # a register that is emptied leaves texts side by side, which are one then
+        steps = {(0, "a"): (1, {"y": ()}), (1, "a"): (0, {"x": ("c", ("y",), "c", ("x",)) * 200})}
+        emptied = Program("a", 2, ["x", "y"], {"x": "b"}, steps, {0: (("x",),)})
+        self.assertEqual(read_as(emptied, {"a": "aa"}).steps[(0, "a")][1]["x"], ("cc", ("x",)) * 200)
+        steps[(1, "a")] = (0, {"x": ("c", ("y",), "c", ("x",)) * 200 + (("y",), "c", ("y",))})
+        with self.assertRaises(TooLarge):
+            read_as(Program("a", 2, ["x", "y"], {"x": "b"}, steps, {0: (("x",),)}), {"a": "aa"})
         # texts alone, however many come together, are one item
         self.assertEqual(read_as(program(("c", ("x",), "c")), {"a": "aaaaaa"}).steps[(0, "a")][1]["x"],
                          ("c" * 6, ("x",), "c" * 6))
