@@ -120,6 +120,29 @@ LONGEST = """
 [8, (2, 1), True, None]
 """
 
+PROGRAMTEXTS = r'''
+>>> from passtexts.programtexts import read_program, write_program
+>>> program = read_program('letters ab\nregisters x\n0 a 0: x = x "1" # counts\n0 b 0\nend 0: x "e"')
+>>> [program('aba'), write_program(program)]
+['11e', 'letters ab\nregisters x\n0 a 0: x = x "1"\n0 b 0\nend 0: x "e"\n']
+'''
+
+SCRIPTS = r'''
+>>> from passtexts.scripts import read_script
+>>> text = 'letters ab; counter n 2; text x; on a when n < 2 { x = "a" x; n = n + 1; } on b { x = x "b"; n = 0; } end: x;'
+>>> script = read_script(text + ' # at most two a in a row')
+>>> [script.letters, script.counters, script.texts, len(script), script == read_script(text.replace('on b', 'on b when true'))]
+['ab', {'n': 2}, {'x': ''}, 2, True]
+'''
+
+SCRIPTWRITING = r'''
+>>> from passtexts.scripts import read_script
+>>> from passtexts.scriptwriting import write_script
+>>> script = read_script('letters ba; text x; part put(t) { t = t "1"; } on ab { if (true) { do put ( x ); } else { } } end when not (1 < 0 or 2 = 3): x;')
+>>> write_script(script)
+'letters ab;\ntext x;\npart put(t) {\n  t = t "1";\n}\non any {\n  if true {\n    do put(x);\n  }\n}\nend when not (1 < 0 or 2 = 3): x;\n'
+'''
+
 
 class Examples(unittest.TestCase):
     def check(self, text):
@@ -167,3 +190,12 @@ class Examples(unittest.TestCase):
 
     def test_longest(self):
         self.check(LONGEST)
+
+    def test_programtexts(self):
+        self.check(PROGRAMTEXTS)
+
+    def test_scripts(self):
+        self.check(SCRIPTS)
+
+    def test_scriptwriting(self):
+        self.check(SCRIPTWRITING)

@@ -49,6 +49,9 @@ INTERFACE = {
     "making": ["beside", "chosen", "kept", "turned", "respelled", "read_as"],
     "longest": {"longest": None, "judge_rate": None, "most_length": None,
                 "Rate": ["__init__", "__eq__", "__bool__", "shows"]},
+    "programtexts": ["read_program", "write_program"],
+    "scripts": {"read_script": None, "BadScript": None, "Script": ["__init__", "__eq__", "__len__"]},
+    "scriptwriting": ["write_script"],
     "runs": {"Run": ["__init__", "read", "back", "text", "contents", "written", "trial", "attempt", "__len__"]},
 }
 
@@ -100,6 +103,13 @@ def bound_in(function):
 
 def is_call_of(node, names):
     return isinstance(node, ast.Call) and isinstance(node.func, ast.Name) and node.func.id in names
+
+
+def is_plain_value(node):
+    """Whether it is a value written out, or a tuple of such."""
+    if isinstance(node, ast.Tuple):
+        return all(is_plain_value(part) for part in node.elts)
+    return isinstance(node, ast.Constant)
 
 
 class Language(unittest.TestCase):
@@ -157,7 +167,7 @@ class Language(unittest.TestCase):
             self.assertEqual(len(names), len(set(names)), f"L15 {name}")
             for number, node in enumerate(tree.body):
                 docstring = isinstance(node, ast.Expr) and number == 0
-                plain = isinstance(node, ast.Assign) and isinstance(node.value, ast.Constant)
+                plain = isinstance(node, ast.Assign) and is_plain_value(node.value)
                 self.assertTrue(docstring or plain or isinstance(node, (ast.ImportFrom, ast.FunctionDef, ast.ClassDef)),
                                 self.told(name, node, "L3"))
         for name, node in nodes(ast.ClassDef):
