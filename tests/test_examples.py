@@ -143,6 +143,45 @@ SCRIPTWRITING = r'''
 'letters ab;\ntext x;\npart put(t) {\n  t = t "1";\n}\non any {\n  if true {\n    do put(x);\n  }\n}\nend when not (1 < 0 or 2 = 3): x;\n'
 '''
 
+SCRIPTRUNS = r'''
+>>> from passtexts.scriptruns import Stepper, run_script
+>>> from passtexts.scripts import read_script
+>>> script = read_script('letters ab; counter n 2; text x; on a when n < 2 { x = "a" x; n = n + 1; } on b { x = x "b"; n = 0; } end: x;')
+>>> stepper = Stepper(script).read('aaab')
+>>> [run_script(script, 'aabaab'), stepper.rules(), stepper.counters(), stepper.written(), stepper.back().counters()]
+['aaaabb', [0, 0, None, 1], {'n': 0}, 'aab', {'n': 2}]
+'''
+
+COMPILING = r'''
+>>> from passtexts.compiling import compiled, judge_scripts, states_of
+>>> from passtexts.scripts import read_script
+>>> text = 'letters ab; counter n 2; text x; on a when n < 2 { x = "a" x; n = n + 1; } on b { x = x "b"; n = 0; } end: x;'
+>>> one, other = read_script(text), read_script(text.replace('n < 2', 'n != 2'))
+>>> [states_of(one), compiled(one).steps[(0, 'b')], bool(judge_scripts(one, other)), judge_scripts(one, read_script(text.replace('n < 2', 'n < 1'))).text]
+[[{'n': 0}, {'n': 1}, {'n': 2}], (0, {'x': (('x',), 'b')}), True, 'aa']
+'''
+
+IMPROVING = r'''
+>>> from passtexts.improving import improved, needless_rules, unused_rules
+>>> from passtexts.scripts import read_script
+>>> from passtexts.scriptwriting import write_script
+>>> script = read_script('letters ab; counter n 9; text x; on a { x = x "a"; n = 1; } on a when n = 1 { x = ; } on b when n > 0 { x = x "b"; } on b { x = x "b"; } end: x;')
+>>> [unused_rules(script), needless_rules(script), write_script(improved(script))]
+[[1], [1, 2], 'letters ab;\ntext x;\non a {\n  x = x "a";\n}\non b {\n  x = x "b";\n}\nend: x;\n']
+'''
+
+PIPES = r'''
+>>> from passtexts.compiling import compiled
+>>> from passtexts.pipes import Pipe, fused, idle_stages, judge_swap, needless_stages, orders, refused_sets
+>>> from passtexts.scripts import read_script
+>>> head = 'letters ab; counter n 2; text x; '
+>>> few = compiled(read_script(head + 'on a { n = n + 1; x = x "a"; if n = 2 { stop; } } on b { x = x "b"; } end: x;'))
+>>> back = compiled(read_script('letters ab; text x; on a { x = "a" x; } on b { x = "b" x; } end: x;'))
+>>> pipe = Pipe([back, few, back])
+>>> [pipe.through('baa'), pipe('ab'), fused(pipe)('bba'), pipe.refuses('aa'), needless_stages(pipe), orders(pipe) == orders(Pipe([back, few, back])), len(orders(pipe)), refused_sets(pipe)[1].first(), bool(judge_swap(pipe, 0))]
+[['aab', None, None], 'ab', 'bba', 1, [], True, 6, 'aa', True]
+'''
+
 
 class Examples(unittest.TestCase):
     def check(self, text):
@@ -199,3 +238,15 @@ class Examples(unittest.TestCase):
 
     def test_scriptwriting(self):
         self.check(SCRIPTWRITING)
+
+    def test_scriptruns(self):
+        self.check(SCRIPTRUNS)
+
+    def test_compiling(self):
+        self.check(COMPILING)
+
+    def test_improving(self):
+        self.check(IMPROVING)
+
+    def test_pipes(self):
+        self.check(PIPES)

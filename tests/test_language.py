@@ -10,7 +10,7 @@ FOLDER = os.path.join(os.path.dirname(os.path.dirname(os.path.abspath(__file__))
 BUILTINS = set("""len range enumerate zip min max sum abs sorted reversed int str bool list tuple dict set isinstance
     ord repr any all divmod Exception ValueError TypeError KeyError IndexError super property staticmethod
     classmethod True False None""".split())
-LIBRARY = {"math": {"gcd"}, "heapq": {"heappush", "heappop"}, "itertools": {"product"}}
+LIBRARY = {"math": {"gcd"}, "heapq": {"heappush", "heappop"}, "itertools": {"product", "permutations"}}
 METHODS = set("""append clear copy count endswith extend find get index insert isalnum isalpha isdigit islower isspace
     isupper items join keys ljust lower lstrip partition pop remove replace reverse rfind rjust rpartition rsplit
     rstrip setdefault split splitlines startswith strip update upper values zfill bit_length add discard""".split())
@@ -52,6 +52,13 @@ INTERFACE = {
     "programtexts": ["read_program", "write_program"],
     "scripts": {"read_script": None, "BadScript": None, "Script": ["__init__", "__eq__", "__len__"]},
     "scriptwriting": ["write_script"],
+    "scriptruns": {"run_script": None, "Stepper": ["__init__", "read", "back", "text", "rules", "counters", "contents",
+                                                   "written", "__len__"]},
+    "compiling": ["states_of", "compiled", "judge_scripts", "script_of"],
+    "improving": ["unused_rules", "unused_ends", "inlined", "narrowed", "needless_rules", "improved"],
+    "pipes": {"Pipe": ["__init__", "__call__", "through", "refuses", "stage", "__len__", "__eq__"],
+              **{name: None for name in ("piped", "fused", "merged", "judge_pipes", "needless_stages", "leaned",
+                                         "idle_stages", "orders", "judge_swap", "refused_sets", "judge_stages")}},
     "runs": {"Run": ["__init__", "read", "back", "text", "contents", "written", "trial", "attempt", "__len__"]},
 }
 
@@ -92,7 +99,7 @@ def defined(tree):
 def bound_in(function):
     """The names that a function binds: parameters, variables, nested functions."""
     told = function.args
-    names = [arg.arg for arg in told.args + told.posonlyargs + told.kwonlyargs]
+    names = [arg.arg for arg in told.args + told.posonlyargs + told.kwonlyargs + [told.vararg] if arg]
     for node in ast.walk(function):
         if isinstance(node, ast.Name) and isinstance(node.ctx, ast.Store):
             names.append(node.id)
@@ -181,7 +188,9 @@ class Language(unittest.TestCase):
             self.fail(self.told(name, node, "not used in this package"))
         for name, node in nodes(ast.FunctionDef):
             self.assertFalse(node.decorator_list, self.told(name, node, "L4"))
-            self.assertFalse(node.args.vararg or node.args.kwarg, self.told(name, node, "L4"))
+            self.assertIsNone(node.args.kwarg, self.told(name, node, "L4"))
+            if node.args.vararg:
+                self.assertIn(node, TREES[name].body, self.told(name, node, "L4"))
             for told in node.args.defaults:
                 self.assertIsInstance(told, ast.Constant, self.told(name, node, "L4"))
 
@@ -273,11 +282,11 @@ class Language(unittest.TestCase):
         for name, node in nodes(ast.Call):
             if is_call_of(node, TAKE_LISTS):
                 iterated |= {id(told) for told in node.args}
-            if is_call_of(node, {"enumerate", "zip", "reversed", "len"}):
+            if is_call_of(node, {"enumerate", "zip", "reversed", "len", "product", "permutations"}):
                 iterated |= {id(told) for told in node.args}
         for name, node in nodes(ast.Call):
             viewed = isinstance(node.func, ast.Attribute) and node.func.attr in ("keys", "values", "items")
-            if viewed or is_call_of(node, {"zip", "enumerate", "reversed", "range"}):
+            if viewed or is_call_of(node, {"zip", "enumerate", "reversed", "range", "product", "permutations"}):
                 self.assertIn(id(node), iterated, self.told(name, node, "L23"))
 
     def test_sets(self):
