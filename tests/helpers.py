@@ -36,20 +36,20 @@ FIRSTS = ({}, {"x": "a"}, {"y": "ba"}, {"x": "b", "y": "b"})
 
 
 class Digits:
-    """Takes one choice after the other from a number."""
+    """Takes one choice after the other, as a number tells; near numbers lead to choices that are far apart."""
 
     def __init__(self, number):
         self.number = number
 
     def take(self, many):
-        self.number, digit = divmod(self.number, many)
-        return digit
+        self.number = (self.number * 6364136223846793005 + 1442695040888963407) % 2 ** 64
+        # the low digits of such numbers come again and again, the high ones do not
+        return (self.number >> 33) % many
 
 
 def counted(number, letters, states, moves=PLAIN_MOVES):
     """The program with this number among those of a shape."""
-    # far numbers are spread over the choices, so that a few hundred of them come to all kinds of programs
-    digits = Digits(number * 1000003 * 998244353 + number)
+    digits = Digits(number)
     firsts = FIRSTS[digits.take(len(FIRSTS))]
     steps = {}
     for state in range(states):

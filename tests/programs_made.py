@@ -61,7 +61,7 @@ def of_one_sign(program):
 
 def put_in_elsewhere(program, number):
     """The program with a sign taken from first contents or rows at the end and put into others."""
-    digits = Digits(number * 15485863 * 32452843)
+    digits = Digits(number + 15485863)
     firsts = {name: program.firsts[name] + ("", "a", "b")[digits.take(3)] for name in "xy"}
     ends = {}
     for state, row in program.ends.items():

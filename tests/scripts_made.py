@@ -61,7 +61,7 @@ def statements_of(digits, many, depth, copies):
         elif kind < 11:
             found.append(CALLS[digits.take(len(CALLS))])
         elif kind == 11:
-            found.append(("stop",) if digits.take(3) == 0 else ROWS[1])
+            found.append(("stop",) if digits.take(2) else ROWS[1])
         elif kind == 12 and copies:
             found.extend(COPIES[digits.take(len(COPIES))])
         elif depth > 0:
@@ -73,7 +73,7 @@ def statements_of(digits, many, depth, copies):
 
 def counted_script(number, letters="ab", copies=False):
     """The tree of the script with this number."""
-    digits = Digits((number + 1) * 1000003 * 998244353 * 15485863 * 32452843 * 49979687 * 67867967 + number)
+    digits = Digits(number)
     firsts = ({}, {"x": "a"}, {"y": "b"}, {"x": "b", "z": "ab"})[digits.take(4)]
     rules = []
     for _ in range(1 + digits.take(4)):

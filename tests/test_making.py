@@ -110,7 +110,7 @@ class Made(unittest.TestCase):
 
     def test_plain_and_thrifty_programs_stay_so(self):
         kinds = {"plain": 0, "thrifty": 0}
-        for one, other, number in some_programs(120, PLAIN_MOVES + COPY_MOVES * 2):
+        for one, other, number in some_programs(300, PLAIN_MOVES[:6] + COPY_MOVES[:2]):
             if not judge_thrifty(one) or not judge_thrifty(other):
                 continue
             kinds["plain" if is_plain(one) and is_plain(other) else "thrifty"] += 1

@@ -11,7 +11,7 @@ from tests.helpers import COPY_MOVES, PLAIN_MOVES, Digits, counted, doubling, ec
 
 def some_set(number, letters="ab", most=3):
     """The set with this number."""
-    digits = Digits(number * 1000003 * 998244353 + number)
+    digits = Digits(number)
     states = 1 + digits.take(most)
     steps = [{letter: digits.take(states) for letter in letters} for _ in range(states)]
     return TextSet(letters, steps, [state for state in range(states) if digits.take(2)])
