@@ -58,7 +58,6 @@ def improved(script):
 
 def thrifty_program(script):
     """The program of a script, if it is thrifty."""
-    check_script(script)
     program = compiled(script)
     check_thrifty(program)
     return program

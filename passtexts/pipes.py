@@ -2,9 +2,10 @@
 
 from itertools import permutations
 
-from passtexts.alike import Same, judge_thrifty_ones
+from passtexts.alike import Differ, Same, judge_thrifty_ones
 from passtexts.behind import one_behind_other, texts_of
 from passtexts.errors import BadNumber, BadPipe, BadProgram, Unlike
+from passtexts.living import thrifty_text
 from passtexts.places import Places
 from passtexts.programs import Program, copied, made
 from passtexts.sets import judge_into, least_of
@@ -13,6 +14,7 @@ from passtexts.values import check_word, is_number
 
 MOST_STAGES = 6
 MOST_ORDERED = 4
+SHORT = 3
 
 
 class Pipe:
@@ -90,7 +92,8 @@ def judge_pipes(one, other):
     check_pipe(other)
     if letters_of(one) != letters_of(other):
         raise Unlike("letters")
-    return judge_thrifty_ones(fused(one), fused(other))
+    text = apart_soon(one.stages, other.stages)
+    return judge_thrifty_ones(fused(one), fused(other)) if text is None else Differ(text)
 
 
 def needless_stages(pipe):
@@ -221,7 +224,28 @@ def fused_ahead(pipe):
 
 def are_same(stages, program):
     """Whether these are the stages of a pipe that reads what a thrifty program reads, and writes the same."""
-    return are_stages(stages, program.letters) and write_alike(fused(Pipe(stages)), program)
+    if not are_stages(stages, program.letters) or apart_soon(stages, [program]) is not None:
+        return False
+    return write_alike(fused(Pipe(stages)), program)
+
+
+def apart_soon(stages, others):
+    """The first text, of the shortest ones, for which stages write something else than other ones, None without one."""
+    # most that differ do so soon, and a few texts are read faster than programs are made one
+    level = [""]
+    for _ in range(SHORT + 1):
+        for text in level:
+            if written_at_last(stages, text) != written_at_last(others, text):
+                return text
+        level = [text + letter for text in level for letter in stages[0].letters]
+    return None
+
+
+def written_at_last(stages, text):
+    """What the last one of thrifty stages writes, None if one of them refuses."""
+    for stage in stages:
+        text = None if text is None else thrifty_text(stage, text)
+    return text
 
 
 def write_alike(one, other):

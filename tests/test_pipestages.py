@@ -98,6 +98,16 @@ class Needless(unittest.TestCase):
         self.assertEqual(needless_stages(Pipe([echo("ab"), echo("abc")])), [1])
         self.assertEqual(needless_stages(Pipe([echo("ab"), echo("ba")])), [0, 1])
 
+    def test_what_is_unlike_for_long_texts_alone(self):
+        late = compiled(read_script('letters a; counter n 40; text x; on a { n = n + 1; x = x "a"; } end when n < 40: x; end: x "b";'))
+        pipe = Pipe([late, leaving_out("b"), echo()])
+        self.assertEqual((needless_stages(pipe), leaned(pipe)), ([2], Pipe([late, leaving_out("b")])))
+        self.assertEqual(judge_pipes(Pipe([late]), pipe), Differ("a" * 40))
+        twice = compiled(read_script('letters ab; counter n 9; text x; on a { n = n + 1; if n = 9 { stop; } x = x "a"; } on b { x = x "b"; } end: x;'))
+        self.assertEqual(judge_swap(Pipe([leaving_out("a"), twice]), 0), Differ("a" * 9))
+        self.assertEqual(orders(Pipe([leaving_out("a"), twice])), [(0, 1)])
+        self.assertEqual(needless_stages(Pipe([twice, turning()])), [])
+
     def test_a_first_stage_that_is_not_plain(self):
         self.assertEqual(needless_stages(Pipe([copying(), echo()])), [1])
         self.assertEqual(needless_stages(Pipe([AROUND, leaving_out("a")])), [])

@@ -81,6 +81,9 @@ class WhatIsDone(unittest.TestCase):
         self.assertEqual(run_script(script, ""), "abcb")
         self.assertEqual(told_by(Stepper(script)), ("", [], {"n": 0}, {"x": "ab", "y": "b"}, "abcb", 0))
         self.assertEqual(list(Stepper(script).contents()), ["x", "y"])
+        script = read_script("letters a; counter n 1; counter b 2; counter m 3; on a { n = 1; b = 2; }")
+        for text in ("", "a"):
+            self.assertEqual(list(Stepper(script).read(text).counters()), ["b", "m", "n"])
 
     def test_the_first_rule_that_has_the_letter_and_whose_guard_is_true(self):
         told = ('on b { x = x "1"; } on a when n = 1 { x = x "2"; n = 2; } on ab when n = 0 { x = x "3"; n = 1; } '

@@ -40,6 +40,7 @@ class WhatItTells(unittest.TestCase):
         self.assertEqual((script.letters, len(script)), ("0ab", 2))
         self.assertEqual(script.counters, {"f": 2, "g": 299})
         self.assertEqual(script.texts, {"x": "ab", "y": "", "z": ""})
+        self.assertEqual((list(script.counters), list(script.texts)), (["f", "g"], ["x", "y", "z"]))
 
     def test_the_least_script(self):
         script = read_script("letters a;")
@@ -78,6 +79,18 @@ class WhatItTells(unittest.TestCase):
         script = read_script("letters a; counter a 1; text abcdefgh; part b(zzzzzzzz) { zzzzzzzz = zzzzzzzz abcdefgh; } "
                              "on a { abcdefgh = abcdefgh abcdefgh; do b(abcdefgh); } end when a = 0: abcdefgh;")
         self.assertEqual(read_script(write_script(script)), script)
+
+    def test_words_of_scripts_are_no_names(self):
+        for name in RESERVED:
+            for told in (f"letters a; counter {name} 1;", f"letters a; text {name};", f"letters a; part {name}() {{ }}",
+                         f"letters a; part p({name}) {{ }}", f"letters a; part p(t, {name}) {{ }}"):
+                with self.assertRaises(BadText) as caught:
+                    read_script(told)
+                self.assertEqual((caught.exception.line, caught.exception.column), (1, told.rindex(name) + 1), told)
+            for near in (name + "x", "x" + name, name + name[-1]):
+                if near not in RESERVED and len(near) <= 8:
+                    script = read_script(f"letters a; counter {near} 1; on a {{ {near} = {near} + 1; }} end when {near} = 1: ;")
+                    self.assertEqual(script.counters, {near: 1})
 
     def test_numbers_up_to_299(self):
         script = read_script("letters a; counter n 299; on a when n < 299 { n = n + 299 - 299 + 0; n = 299 - 0; }")
