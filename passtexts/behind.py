@@ -57,8 +57,13 @@ def check_behind(one, other):
     check_thrifty(one)
     if not is_plain(other):
         raise NotPlain("a register stands twice")
-    if not all([sign in other.letters for text in texts_of(one) for sign in text]):
+    if not reads_all(other, one):
         raise Unlike("signs")
+
+
+def reads_all(program, ahead):
+    """Whether a program reads all signs that stand in the rows and first contents of another one."""
+    return all([sign in program.letters for text in texts_of(ahead) for sign in text])
 
 
 def texts_of(program):

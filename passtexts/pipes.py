@@ -3,7 +3,7 @@
 from itertools import permutations
 
 from passtexts.alike import Differ, Same, judge_thrifty_ones
-from passtexts.behind import one_behind_other, texts_of
+from passtexts.behind import one_behind_other, reads_all
 from passtexts.errors import BadNumber, BadPipe, BadProgram, Unlike
 from passtexts.living import thrifty_text
 from passtexts.places import Places
@@ -192,11 +192,6 @@ def first_unfit(stages):
         if not fine:
             return number
     return None
-
-
-def reads_all(program, ahead):
-    """Whether a program reads all signs that stand in the rows and first contents of another one."""
-    return all([sign in program.letters for text in texts_of(ahead) for sign in text])
 
 
 def are_stages(stages, letters):
